@@ -32,7 +32,7 @@ func Gram(a api.Algebra, l api.Lattice) ([][]int, api.Errno) {
 	var rows [][]int
 	for _, row := range r.gram() {
 		for _, n := range row {
-			if absolute(n) > api.MaxDisc {
+			if max(n, -n) > api.MaxDisc {
 				return nil, api.ErrLarge
 			}
 		}

@@ -5,17 +5,18 @@ import (
 
 	"fourfold/algebra"
 	"fourfold/api"
+	"fourfold/exact"
 	"fourfold/integer"
 )
 
 // lineOf returns the multiples of an element.
-func lineOf(q api.Quat) exact {
-	return span(integer.Of(q.Den), rowOf(numeratorsOf(q)))
+func lineOf(q api.Quat) exact.Lattice {
+	return exact.Span(integer.Of(q.Den), exact.RowOf(numeratorsOf(q)))
 }
 
 // integers returns the lattice of the rational integers.
-func integers() exact {
-	return span(integer.Of(1), rational(1))
+func integers() exact.Lattice {
+	return exact.Span(integer.Of(1), exact.Rational(1))
 }
 
 // Generated returns the least order that contains all elements of a list.
@@ -35,12 +36,12 @@ func Generated(a api.Algebra, l []api.Quat) (api.Lattice, api.Errno) {
 	// If the products are in one lattice, traces and norms are integers. Then x x and x y + y x are combinations of x, y and 1, and so all products are combinations of those in which each element stands once at most, behind those before it in the list: these span an order. Otherwise they do not.
 	products := integers()
 	for _, q := range l {
-		products = products.plus(products.times(a, lineOf(q)))
-		if !products.isRing(a) {
+		products = products.Plus(products.Times(a, lineOf(q)))
+		if !products.IsRing(a) {
 			return api.Lattice{}, api.ErrNone
 		}
 	}
-	if isZero(products.determinant()) {
+	if exact.IsZero(products.Determinant()) {
 		return api.Lattice{}, api.ErrShape
 	}
 	return latticeOf(a, products)
@@ -52,12 +53,12 @@ func Conjugate(a api.Algebra, l api.Lattice, q api.Quat) (api.Lattice, api.Errno
 	if e = cmp.Or(e, algebra.CheckQuat(q)); e != api.OK {
 		return api.Lattice{}, e
 	}
-	n := rowOf(numeratorsOf(q))
-	norm := n.norm(a)
-	if isZero(norm) {
+	n := exact.RowOf(numeratorsOf(q))
+	norm := n.Norm(a)
+	if exact.IsZero(norm) {
 		return api.Lattice{}, api.ErrZero
 	}
 	norm.Neg = false
-	inverse := span(norm, n.conjugate()) // or its opposite
-	return latticeOf(a, inverse.times(a, r.exact).times(a, span(integer.Of(1), n)))
+	inverse := exact.Span(norm, n.Conjugate()) // or its opposite
+	return latticeOf(a, inverse.Times(a, r.exact).Times(a, exact.Span(integer.Of(1), n)))
 }

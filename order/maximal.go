@@ -5,6 +5,7 @@ import (
 
 	"fourfold/algebra"
 	"fourfold/api"
+	"fourfold/exact"
 	"fourfold/integer"
 )
 
@@ -35,49 +36,44 @@ func IsMaximal(a api.Algebra, l api.Lattice) (bool, api.Errno) {
 	return r.level() == 1, api.OK
 }
 
-// leftOrder returns the order of all x with x l in l, for l of rank 4: those whose products with the elements of l and then of its dual have integers as traces.
-func (l exact) leftOrder(a api.Algebra) exact {
-	return l.times(a, l.dual(a)).dual(a)
-}
-
 // radical returns the elements of the order l whose residues are in the radical of l modulo p: those whose products with all elements have traces that p divides, and whose norms p divides, which follows but for p = 2.
-func (l exact) radical(a api.Algebra, p int) exact {
-	part := l.dual(a).plus(l.over(p)).dual(a)
+func radical(a api.Algebra, l exact.Lattice, p int) exact.Lattice {
+	part := l.Dual(a).Plus(l.Over(p)).Dual(a)
 	if p > 2 {
 		return part
 	}
 	// On this part the norm is additive modulo 2.
-	even := part.by(2)
-	var odd []row
-	for _, r := range part.rows {
-		if residue(part.norm(a, r), 2) == 1 {
+	even := part.By(2)
+	var odd []exact.Row
+	for _, r := range part.Rows {
+		if exact.Residue(norm(a, part, r), 2) == 1 {
 			odd = append(odd, r)
-			r = r.minus(integer.Of(1), odd[0])
+			r = r.Minus(integer.Of(1), odd[0])
 		}
-		even = even.plus(span(part.den, r))
+		even = even.Plus(exact.Span(part.Den, r))
 	}
 	return even
 }
 
-// norm returns the norm of r / den, which is an integer.
-func (l exact) norm(a api.Algebra, r row) api.Int {
-	return floor(r.norm(a), integer.Mul(l.den, l.den))
+// norm returns the norm of r / l.Den, which is an integer.
+func norm(a api.Algebra, l exact.Lattice, r exact.Row) api.Int {
+	return exact.Floor(r.Norm(a), integer.Mul(l.Den, l.Den))
 }
 
 // sides returns the two orders that contain the order l with the index p, for p that divides the discriminant once and not that of the algebra.
 // Then l modulo the radical is a product of two fields of p elements. An element whose residue has two roots, less one of them, is in one of these fields: with the radical this is an ideal, and its left order is larger.
-func (l exact) sides(a api.Algebra, p int) []exact {
-	radical := l.radical(a, p)
-	var orders []exact
-	for _, r := range l.rows {
-		trace := floor(integer.Add(r[0], r[0]), l.den)
-		list := roots(residue(trace, p), residue(l.norm(a, r), p), p)
+func sides(a api.Algebra, l exact.Lattice, p int) []exact.Lattice {
+	radical := radical(a, l, p)
+	var orders []exact.Lattice
+	for _, r := range l.Rows {
+		trace := exact.Floor(integer.Add(r[0], r[0]), l.Den)
+		list := roots(exact.Residue(trace, p), exact.Residue(norm(a, l, r), p), p)
 		if len(list) < 2 {
 			continue
 		}
 		for _, x := range list {
-			less := r.minus(integer.Mul(integer.Of(x), l.den), rational(1))
-			orders = append(orders, radical.plus(span(l.den, less)).leftOrder(a))
+			less := r.Minus(integer.Mul(integer.Of(x), l.Den), exact.Rational(1))
+			orders = append(orders, radical.Plus(exact.Span(l.Den, less)).LeftOrder(a))
 		}
 		break
 	}
@@ -85,17 +81,17 @@ func (l exact) sides(a api.Algebra, p int) []exact {
 }
 
 // maximalAt returns an order that contains the order l, with an index that is a power of p, and is maximal at p.
-func (l exact) maximalAt(a api.Algebra, p int) exact {
+func maximalAt(a api.Algebra, l exact.Lattice, p int) exact.Lattice {
 	d, _ := algebra.Discriminant(a)
 	for {
-		disc, _ := integer.Small(l.discriminant(a))
+		disc, _ := integer.Small(l.Discriminant(a))
 		switch {
 		case disc/d%p != 0:
 			return l
 		case disc%(p*p) == 0: // then the left order of the radical is larger
-			l = l.radical(a, p).leftOrder(a)
+			l = radical(a, l, p).LeftOrder(a)
 		default: // with the greater denominator the order may be too large
-			l = slices.MinFunc(l.sides(a, p), func(x, y exact) int { return integer.Cmp(x.den, y.den) })
+			l = slices.MinFunc(sides(a, l, p), func(x, y exact.Lattice) int { return integer.Cmp(x.Den, y.Den) })
 		}
 	}
 }
@@ -109,7 +105,7 @@ func MaximalAt(a api.Algebra, l api.Lattice, p int) (api.Lattice, api.Errno) {
 	if !integer.IsPrime(p) {
 		return api.Lattice{}, api.ErrPrime
 	}
-	return latticeOf(a, r.exact.maximalAt(a, p))
+	return latticeOf(a, maximalAt(a, r.exact, p))
 }
 
 // Maximal returns a maximal order that contains l.
@@ -121,7 +117,7 @@ func Maximal(a api.Algebra, l api.Lattice) (api.Lattice, api.Errno) {
 	largest := r.exact
 	primes, _ := integer.Factor(r.level())
 	for _, f := range primes {
-		largest = largest.maximalAt(a, f.Prime)
+		largest = maximalAt(a, largest, f.Prime)
 	}
 	return latticeOf(a, largest)
 }
@@ -162,7 +158,7 @@ func (r ring) divisor(q int) numbers {
 }
 
 // eichler returns an order of the level n in a maximal one.
-func (r ring) eichler(n int) exact {
+func (r ring) eichler(n int) exact.Lattice {
 	var sum numbers
 	primes, _ := integer.Factor(n)
 	for _, f := range primes {
@@ -171,8 +167,8 @@ func (r ring) eichler(n int) exact {
 		}
 	}
 	// Modulo each prime that divides n the multiples of this element from the left are the matrices whose rows are multiples of one; with the numbers they are those that take this row to a multiple.
-	element := span(integer.Of(r.lattice.Den), rowOf(sum.of(r.basis())))
-	return integers().plus(r.exact.times(r.algebra, element)).plus(r.exact.by(n))
+	element := exact.Span(integer.Of(r.lattice.Den), exact.RowOf(sum.of(r.basis())))
+	return integers().Plus(r.exact.Times(r.algebra, element)).Plus(r.exact.By(n))
 }
 
 // Eichler returns an order of the level n in the maximal order l.

@@ -1,17 +1,12 @@
 package order
 
 import (
-	"cmp"
 	"slices"
 
 	"fourfold/api"
+	"fourfold/exact"
 	"fourfold/integer"
 )
-
-// compareLattices returns -1, 0 or 1, as the lattice l, in normal form, stands before m, is m, or stands behind m.
-func compareLattices(l, m api.Lattice) int {
-	return cmp.Or(cmp.Compare(l.Den, m.Den), slices.CompareFunc(l.Rows, m.Rows, slices.Compare))
-}
 
 // Overorders returns all orders that contain l with the index p.
 func Overorders(a api.Algebra, l api.Lattice, p int) ([]api.Lattice, api.Errno) {
@@ -29,8 +24,8 @@ func Overorders(a api.Algebra, l api.Lattice, p int) ([]api.Lattice, api.Errno) 
 		if !isDirection(c) || s.trace(c)%p != 0 || s.norm(c) != 0 {
 			continue
 		}
-		larger := r.exact.plus(span(integer.Of(p*r.lattice.Den), rowOf(c.of(r.basis()))))
-		if !larger.isRing(a) {
+		larger := r.exact.Plus(exact.Span(integer.Of(p*r.lattice.Den), exact.RowOf(c.of(r.basis()))))
+		if !larger.IsRing(a) {
 			continue
 		}
 		found, e := latticeOf(a, larger)
@@ -39,6 +34,6 @@ func Overorders(a api.Algebra, l api.Lattice, p int) ([]api.Lattice, api.Errno) 
 		}
 		list = append(list, found)
 	}
-	slices.SortFunc(list, compareLattices)
+	slices.SortFunc(list, exact.Compare)
 	return list, api.OK
 }

@@ -6,6 +6,7 @@ import (
 	"testing"
 
 	"fourfold/api"
+	"fourfold/exact"
 )
 
 // The test of this file looks at the bases from which the elements of P4.7 are found: with a worse basis some would be missed.
@@ -15,16 +16,16 @@ func wantReduced(t *testing.T, r ring) {
 	t.Helper()
 	what := fmt.Sprint("the reduced basis of ", r.algebra, r.lattice)
 	basis := r.reduced()
-	var rows []row
+	var rows []exact.Row
 	square := r.lattice.Den * r.lattice.Den
 	norms := big.NewInt(16)
 	last := 0
 	for c := range basis {
-		rows = append(rows, rowOf(basis[c]))
+		rows = append(rows, exact.RowOf(basis[c]))
 		last = product(r.algebra, basis[c], basis[c]) / square
 		norms.Mul(norms, big.NewInt(int64(last)))
 	}
-	if spanned, _ := latticeOf(r.algebra, span(r.exact.den, rows...)); fmt.Sprint(spanned) != fmt.Sprint(r.lattice) {
+	if spanned, _ := latticeOf(r.algebra, exact.Span(r.exact.Den, rows...)); fmt.Sprint(spanned) != fmt.Sprint(r.lattice) {
 		t.Errorf("%s spans %v", what, spanned)
 	}
 	if last != 1 {

@@ -1,4 +1,4 @@
-// Package exact computes with lattices of quaternion algebras whose numbers are of any size: what is computed on the way to a result may be far greater than the result. Packages order and ideal decide by it what is an order, an ideal, or too large.
+// Package exact computes with lattices of quaternion algebras whose numbers are of any size: what is computed on the way to a result may be far greater than the result. Packages order and ideal decide by it what is an order, an ideal, or too large. The elements of a norm, and their numbers, are found with a reduced basis.
 package exact
 
 import (

@@ -36,18 +36,18 @@ func genusOf(a api.Algebra, o api.Lattice) (genus, api.Errno) {
 // class is a right ideal with a reduced basis, by which most lattices that are not equivalent are told apart.
 type class struct {
 	lattice exact.Lattice
-	basis   basis
+	basis   exact.Basis
 }
 
 // classOf returns the class of l.
 func (g genus) classOf(l exact.Lattice) class {
-	return class{lattice: l, basis: basisOf(g.algebra, l)}
+	return class{lattice: l, basis: exact.BasisOf(g.algebra, l)}
 }
 
 // find returns the number of the first class of a list that is c, or -1.
 func (g genus) find(list []class, c class) int {
 	return slices.IndexFunc(list, func(d class) bool {
-		if !c.basis.isAlike(d.basis) {
+		if !c.basis.IsAlike(d.basis) {
 			return false
 		}
 		rows, _ := maps(g.algebra, c.lattice, d.lattice)
@@ -58,7 +58,7 @@ func (g genus) find(list []class, c class) int {
 // units returns the number of units of the left order.
 func (g genus) units(c class) int {
 	count := 0
-	for range basisOf(g.algebra, c.lattice.LeftOrder(g.algebra)).ofValue(1) {
+	for range exact.BasisOf(g.algebra, c.lattice.LeftOrder(g.algebra)).OfValue(1) {
 		count++
 	}
 	return count
@@ -76,8 +76,8 @@ func (g genus) prime() int {
 // small returns an equivalent lattice with small numbers: of all x l in the lattice of 1, i, j, k one with the least norm.
 func (g genus) small(l exact.Lattice) exact.Lattice {
 	standard, _ := order.Standard(g.algebra)
-	b := basisOf(g.algebra, exact.Of(standard).Into(g.algebra, l))
-	return l.Moved(g.algebra, b.rows[3], b.den)
+	b := exact.BasisOf(g.algebra, exact.Of(standard).Into(g.algebra, l))
+	return l.Moved(g.algebra, b.Rows[3], b.Den)
 }
 
 // classes returns each class once, that of the order first, and their numbers of units, or ErrLarge if there are too many.

@@ -64,15 +64,15 @@ func Elements(a api.Algebra, l api.Lattice, norm api.Frac) ([]api.Quat, api.Errn
 	if e != api.OK || value.Den != 1 { // all norms are multiples of that of the lattice
 		return nil, api.OK
 	}
-	b := basisOf(a, x)
+	b := exact.BasisOf(a, x)
 	var rows []exact.Row
-	for r := range b.ofValue(value.Num) {
+	for r := range b.OfValue(value.Num) {
 		if len(rows) == api.MaxShort {
 			return nil, api.ErrLarge
 		}
 		rows = append(rows, r)
 	}
-	return quats(rows, b.den)
+	return quats(rows, b.Den)
 }
 
 // maps returns all x with l = x m, as rows over a denominator.
@@ -86,8 +86,8 @@ func maps(a api.Algebra, l, m exact.Lattice) (rows []exact.Row, den api.Int) {
 	if into.Norm(a).Cmp(norm) != 0 { // it is a multiple of norm, and so are all norms
 		return nil, api.Int{}
 	}
-	b := basisOf(a, into)
-	return slices.Collect(b.ofValue(1)), b.den
+	b := exact.BasisOf(a, into)
+	return slices.Collect(b.OfValue(1)), b.Den
 }
 
 // Maps returns all maps from m onto l.

@@ -14,7 +14,7 @@ import (
 func singular(a api.Algebra, l exact.Lattice, p int) exact.Row {
 	norm, square := l.Norm(a), integer.Mul(l.Den, l.Den)
 	for n := range p * p * p {
-		r := coordinates{1, n / (p * p), n / p % p, n % p}.of(l.Rows)
+		r := exact.Coordinates{1, n / (p * p), n / p % p, n % p}.Of(l.Rows)
 		if value := exact.Quotient(r.Norm(a), square).Over(norm); exact.Residue(value.Num, p) == 0 {
 			return r
 		}

@@ -109,12 +109,7 @@ func Cmp(x, y api.Int) int {
 
 // Gcd returns the greatest common divisor, not negative.
 func Gcd(x, y api.Int) api.Int {
-	a, b := trim(x.Words), trim(y.Words)
-	for len(b) > 0 {
-		_, rest := divideWords(a, b)
-		a, b = b, rest
-	}
-	return signed(false, slices.Clone(a))
+	return signed(false, gcdWords(trim(x.Words), trim(y.Words)))
 }
 
 // Root returns the greatest integer whose square is at most x.

@@ -127,6 +127,55 @@ func TestLargeIntegers(t *testing.T) {
 	}
 }
 
+// wantGcd checks Gcd against that of package big, for both orders and signs.
+func wantGcd(t *testing.T, x, y api.Int) {
+	t.Helper()
+	wanted := new(big.Int).GCD(nil, nil, new(big.Int).Abs(toBig(x)), new(big.Int).Abs(toBig(y)))
+	wantInt(t, fmt.Sprint("Gcd ", toBig(x), toBig(y)), integer.Gcd(x, y), wanted)
+	wantInt(t, fmt.Sprint("Gcd ", toBig(y), toBig(x)), integer.Gcd(y, integer.Sub(api.Int{}, x)), wanted)
+}
+
+func TestGreatestCommonDivisors(t *testing.T) {
+	n := numbers(3)
+	for range 3000 {
+		x, y, z := n.integer(7), n.integer(7), n.integer(4)
+		wantGcd(t, x, y)
+		wantGcd(t, integer.Mul(x, z), integer.Mul(y, z))
+		wantGcd(t, integer.Add(integer.Mul(x, y), z), y)                 // a long quotient
+		wantGcd(t, x, integer.Add(x, z))                                 // the same first words
+		wantGcd(t, integer.Mul(x, x), integer.Add(integer.Mul(x, y), z)) // lengths that differ
+	}
+	for range 30 {
+		x, y, z := n.integer(90), n.integer(100), n.integer(40)
+		wantGcd(t, integer.Mul(x, z), integer.Mul(y, z))
+	}
+	// All quotients are 1 for Fibonacci's numbers, and great ones for the others.
+	x, y := integer.Of(0), integer.Of(1)
+	for range 1000 {
+		wantGcd(t, x, y)
+		x, y = y, integer.Add(x, y)
+	}
+	x, y = integer.Of(0), integer.Of(1)
+	for k := range 60 {
+		wantGcd(t, x, y)
+		by := integer.Of([]int{1, math.MaxUint32, 1 << 32, math.MaxInt, 2}[k%5])
+		x, y = y, integer.Add(x, integer.Mul(y, by))
+	}
+}
+
+func TestLongDivisions(t *testing.T) {
+	n := numbers(4)
+	for range 3000 {
+		x, y := n.integer(40), n.integer(30)
+		wantInt(t, "Mul", integer.Mul(x, y), new(big.Int).Mul(toBig(x), toBig(y)))
+		wantDivision(t, x, y)
+		product := integer.Mul(x, y)
+		for _, k := range []int{-1, 0, 1} { // next to a multiple
+			wantDivision(t, integer.Add(product, integer.Of(k)), y)
+		}
+	}
+}
+
 // operations are the functions of integers, each with all its results.
 var operations = []func(x, y api.Int) []api.Int{
 	func(x, y api.Int) []api.Int { return []api.Int{integer.Normal(x)} },

@@ -67,6 +67,10 @@ func subWords(x, y []uint32) []uint32 {
 
 // mulWords returns x y.
 func mulWords(x, y []uint32) []uint32 {
+	const long = 12 // from here on pairs are faster
+	if len(x) >= long && len(y) >= long {
+		return words(mulPairs(pairs(x), pairs(y)))
+	}
 	product := make([]uint32, len(x)+len(y))
 	for i, word := range x {
 		carry := uint64(0)
@@ -106,33 +110,12 @@ func divideWords(x, y []uint32) (quotient, rest []uint32) {
 
 // divideLong is divideWords for x from y on, and y of at least two words.
 func divideLong(x, y []uint32) (quotient, rest []uint32) {
-	n := len(y)
-	// guessWord is right only where the highest bit of the divisor is set.
-	shift := bits.LeadingZeros32(y[n-1])
-	u := shiftLeft(x, shift)
-	v := shiftLeft(y, shift)[:n]
-	quotient = make([]uint32, len(u)-n)
-	for j := len(quotient) - 1; j >= 0; j-- {
-		part := u[j : j+n+1]
-		guess := guessWord(part, v)
-		if subtractMultiple(part, v, guess) {
-			guess--
-			addBack(part, v)
-		}
-		quotient[j] = guess
-	}
-	return trim(quotient), shiftRight(u, shift)
-}
-
-// shiftLeft returns w 2^s in one word more, for s from 0 to 31; its last word may be 0.
-func shiftLeft(w []uint32, s int) []uint32 {
-	shifted := make([]uint32, len(w)+1)
-	for i, word := range w {
-		t := uint64(word) << s
-		shifted[i] |= uint32(t)
-		shifted[i+1] = uint32(t >> 32)
-	}
-	return shifted
+	v := pairs(y)
+	// The quotients of pairs are right only where the highest bit of the divisor is set.
+	shift := bits.LeadingZeros64(v[len(v)-1])
+	u := shiftPairsLeft(pairs(x), shift)
+	q := dividePairs(u, shiftPairsLeft(v, shift)[:len(v)])
+	return words(q), words(shiftPairsRight(u, shift))
 }
 
 // shiftRight returns w / 2^s, rounded down, for s from 0 to 31.
@@ -145,48 +128,6 @@ func shiftRight(w []uint32, s int) []uint32 {
 		above = uint64(w[i])
 	}
 	return trim(shifted)
-}
-
-// guessWord returns the quotient of part by v, which is one word, or 1 more.
-func guessWord(part, v []uint32) uint32 {
-	n := len(v)
-	high, next := uint64(v[n-1]), uint64(v[n-2])
-	top := uint64(part[n])<<32 | uint64(part[n-1])
-	guess, rest := top/high, top%high
-	for guess>>32 != 0 || guess*next > rest<<32|uint64(part[n-2]) {
-		guess--
-		rest += high
-		if rest>>32 != 0 {
-			break
-		}
-	}
-	return uint32(guess)
-}
-
-// subtractMultiple takes v times by from part, and reports whether that was too much.
-func subtractMultiple(part, v []uint32, by uint32) bool {
-	carry, borrow := uint64(0), uint64(0)
-	for i, word := range v {
-		product := uint64(word)*uint64(by) + carry
-		carry = product >> 32
-		t := uint64(part[i]) - uint64(uint32(product)) - borrow
-		part[i] = uint32(t)
-		borrow = t >> 63
-	}
-	t := uint64(part[len(v)]) - carry - borrow
-	part[len(v)] = uint32(t)
-	return t>>63 != 0
-}
-
-// addBack adds v to part, without the carry at the end.
-func addBack(part, v []uint32) {
-	carry := uint64(0)
-	for i, word := range v {
-		t := uint64(part[i]) + uint64(word) + carry
-		part[i] = uint32(t)
-		carry = t >> 32
-	}
-	part[len(v)] += uint32(carry)
 }
 
 // rootWords returns the greatest integer whose square is at most x, which is not 0.

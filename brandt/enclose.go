@@ -49,10 +49,7 @@ func (g grid) outside(most int) int {
 
 // place returns the number at or next behind the only root that is greater than number low and at most number high. There the sign of the squarefree part changes, so that the others need not be known.
 func (g grid) place(low, high int) int {
-	last := g.signAt(high)
-	if last == 0 {
-		return high
-	}
+	last := g.signAt(high) // 0 if the root is there: then it is 0 nowhere before
 	for high-low > 1 {
 		middle := low + (high-low)/2
 		switch g.signAt(middle) {

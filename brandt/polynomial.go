@@ -140,10 +140,10 @@ func (p polynomial) standard() polynomial {
 	return q
 }
 
-// derivative returns the derivative.
+// derivative returns the derivative of p, which is not 0.
 func (p polynomial) derivative() polynomial {
 	var list polynomial
-	for i, x := range p[min(1, len(p)):] {
+	for i, x := range p[1:] {
 		list = append(list, integer.Mul(x, integer.Of(i+1)))
 	}
 	return list

@@ -91,6 +91,52 @@ func TestBasis(t *testing.T) {
 	want(t, "IsAlike of others", one.IsAlike(two), false)
 }
 
+func TestCoordinates(t *testing.T) {
+	l := exact.Span(integer.Of(1), exact.RowOf([4]int{1, 2, 3, 4}), exact.RowOf([4]int{0, 5, 6, 7}), exact.RowOf([4]int{0, 0, 8, 9}), exact.RowOf([4]int{0, 0, 0, 10}))
+	for _, c := range []exact.Coordinates{{1, 0, 0, 0}, {0, -2, 0, 1}, {3, -1, 4, -1}, {}} {
+		r := c.Of(l.Rows)
+		for j := range r {
+			sum := 0
+			for i, row := range l.Rows {
+				n, _ := integer.Small(row[j])
+				sum += c[i] * n
+			}
+			n, _ := integer.Small(r[j])
+			want(t, "a coordinate", n, sum)
+		}
+	}
+}
+
+// No element of a basis becomes shorter by sums and differences of other ones.
+func TestBasisIsReduced(t *testing.T) {
+	seed := 1
+	next := func(most int) int {
+		seed = (seed*1103515245 + 12345) % (1 << 31)
+		return seed / 65536 % most
+	}
+	for range 400 {
+		a := api.Algebra{A: -1 - next(30), B: -1 - next(30)}
+		var rows []exact.Row
+		for i := range 4 {
+			var r [4]int
+			for j := i; j < 4; j++ {
+				r[j] = next(1000)
+			}
+			r[i]++
+			rows = append(rows, exact.RowOf(r))
+		}
+		b := exact.BasisOf(a, exact.Span(integer.Of(1), rows...))
+		for n := range 81 {
+			c := exact.Coordinates{n/27 - 1, n/9%3 - 1, n/3%3 - 1, n%3 - 1}
+			for i, r := range b.Rows {
+				if c[i] == 1 {
+					want(t, "a shorter element", integer.Cmp(c.Of(b.Rows).Norm(a), r.Norm(a)) >= 0, true)
+				}
+			}
+		}
+	}
+}
+
 // Elements that are far too long are no parts, even if their values are no ints.
 func TestBasisOfLongElements(t *testing.T) {
 	a := api.Algebra{A: -1000, B: -1000}

@@ -176,6 +176,33 @@ func TestLongDivisions(t *testing.T) {
 	}
 }
 
+// extreme is an integer of up to most pairs of words, nearly all of which are next to the ends of their range, or to its middle.
+func (n *numbers) extreme(most int) api.Int {
+	var w []uint32
+	for range n.between(1, most) {
+		pair := []uint64{0, math.MaxUint64, 1 << 63}[n.below(3)] + uint64(n.between(0, 4)-2)
+		if n.below(6) == 0 {
+			pair = n.next()
+		}
+		w = append(w, uint32(pair), uint32(pair>>32))
+	}
+	return api.Int{Words: w}
+}
+
+// The quotients of the first pairs are wrong, or cannot be found at all, only where pairs are next to the ends of their range.
+func TestDivisionsOfExtremes(t *testing.T) {
+	n := numbers(5)
+	for range 40000 {
+		x, y, z := n.extreme(4), n.extreme(4), n.extreme(3)
+		product := integer.Mul(x, y)
+		wantDivision(t, x, y)
+		wantDivision(t, product, y)
+		wantDivision(t, integer.Add(product, z), y)
+		wantDivision(t, integer.Sub(product, z), y)
+		wantDivision(t, integer.Add(product, integer.Sub(y, integer.Of(1))), y)
+	}
+}
+
 // operations are the functions of integers, each with all its results.
 var operations = []func(x, y api.Int) []api.Int{
 	func(x, y api.Int) []api.Int { return []api.Int{integer.Normal(x)} },

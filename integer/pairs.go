@@ -85,22 +85,19 @@ func dividePairs(u, v []uint64) []uint64 {
 	return quotient
 }
 
-// guessPair returns the quotient of part by v, which is one pair, or 1 more. It is found with the first two pairs of v.
+// guessPair returns the quotient of part by v, which is one pair, or 1 more.
 func guessPair(part, v []uint64) uint64 {
 	n := len(v)
-	guess, rest, over := uint64(math.MaxUint64), uint64(0), uint64(0)
-	if part[n] < v[n-1] {
-		guess, rest = bits.Div64(part[n], part[n-1], v[n-1])
-	} else {
-		rest, over = bits.Add64(part[n-1], v[n-1], 0)
+	if part[n] == v[n-1] { // the quotient is one of the two greatest pairs, as the highest bit of v is set
+		return math.MaxUint64
 	}
-	for n > 1 && over == 0 {
-		high, low := bits.Mul64(guess, v[n-2])
-		if high < rest || high == rest && low <= part[n-2] {
-			break
-		}
+	guess, rest := bits.Div64(part[n], part[n-1], v[n-1]) // at most 2 too much
+	if n == 1 {
+		return guess
+	}
+	high, low := bits.Mul64(guess, v[n-2])
+	if high > rest || high == rest && low > part[n-2] {
 		guess--
-		rest, over = bits.Add64(rest, v[n-1], 0)
 	}
 	return guess
 }
